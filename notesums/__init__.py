@@ -1,0 +1,1 @@
+"""Notesums: what the notes of a table tell, on the average."""
