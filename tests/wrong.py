@@ -1,4 +1,6 @@
-"""Values of many kinds, and the check that a call refuses them."""
+"""Values of many kinds, and the checks that a call refuses them."""
+
+from notesums.errors import TooMany
 
 
 class Odd:
@@ -23,3 +25,18 @@ def refused(test, error, values, call):
             call(value)
         test.assertIs(type(held.exception), error)
         test.assertIs(held.exception.value, value)
+
+
+def position_of(test, error, call):
+    """The position in the error that a call raises."""
+    with test.assertRaises(error) as held:
+        call()
+    test.assertIs(type(held.exception), error)
+    return held.exception.position
+
+
+def too_many(test, kind, limit, call):
+    """Looks that a call raises TooMany of just this kind."""
+    with test.assertRaises(TooMany) as held:
+        call()
+    test.assertEqual((held.exception.kind, held.exception.limit), (kind, limit))
