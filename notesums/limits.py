@@ -26,7 +26,7 @@ def keys_of(holders):
 
 def product_count(many, degree):
     """The number of the products of just a degree over so many keys."""
-    if degree < 1 or many == 0:
+    if degree < 1:
         return 1 if degree == 0 else 0
     return comb(many + degree - 1, degree)
 

@@ -110,7 +110,6 @@ class Note:
         for position, row in enumerate(rows):
             if not is_multiples(row, len(self._sums)):
                 raise InvalidSum(position)
-        check_many("sums", SUMS, len(rows))
         return Note([multiples(self._sums, row) for row in rows])
 
     def renamed(self, names):

@@ -1,6 +1,6 @@
 """Rules: a formula for each seed of a sketch."""
 
-from notesums.errors import InvalidNumber, InvalidRule, InvalidTable, UnknownSeed
+from notesums.errors import InvalidNumber, InvalidRule, UnknownSeed
 from notesums.formulas import is_formula, position_key, put_sums
 from notesums.limits import SUMS
 from notesums.names import is_name
@@ -78,7 +78,7 @@ def check_rule(sketch, rule):
 
 
 def answers_of(sketch, rule, table):
-    """The dict from the seeds to the values of their formulas for a table."""
+    """The dict from the seeds to the values of their formulas for a table; InvalidTable for what is none."""
     found = {}
     for seed, _, note in sketch.walk():
         shown = note.shows(table)
@@ -99,8 +99,6 @@ def mean_of(sketch, rule):
 def mean_at(sketch, rule, table):
     """The value of the mean of a rule at a table."""
     check_rule(sketch, rule)
-    if not isinstance(table, Table):
-        raise InvalidTable(table)
     answers = answers_of(sketch, rule, table)
     mean = Ratio(0)
     for seed, weight, _ in sketch.walk():

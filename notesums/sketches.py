@@ -1,8 +1,8 @@
 """Sketches: seeds with weights and notes."""
 
-from notesums.errors import InvalidCount, InvalidNames, InvalidSeeds, InvalidWeight, OtherSeeds, UnknownSeed
+from notesums.errors import InvalidCount, InvalidSeeds, InvalidWeight, OtherSeeds, UnknownSeed
 from notesums.limits import KEYS, SEEDS, SUMS, check_many, keys_of
-from notesums.names import is_name, maps_names
+from notesums.names import is_name
 from notesums.notes import Note
 from notesums.ratios import Ratio, as_ratio, is_integer, is_number
 
@@ -152,8 +152,6 @@ class Sketch:
 
     def renamed(self, names):
         """The sketch with new names for some keys; keys can become one."""
-        if not maps_names(names):
-            raise InvalidNames(names)
         return Sketch([(name, weight, note.renamed(names)) for name, weight, note in self.walk()])
 
     def __eq__(self, other):

@@ -1,19 +1,15 @@
 """How far off the answers of a rule are."""
 
-from notesums.errors import InvalidTable, InvalidTables
-from notesums.formulas import put_sums, shifted
+from math import lcm
+
+from notesums.errors import InvalidTables
+from notesums.formulas import position_key, put_sums, shifted
 from notesums.grids import is_weighted
-from notesums.questions import Question
-from notesums.ratios import Ratio
+from notesums.polynomials import worth
+from notesums.questions import Question, bottom_of, common_bottom, tops_of
+from notesums.ratios import Ratio, as_ratio
 from notesums.rules import Rule, answers_of, check_rule, mean_of
 from notesums.sketches import check_copies
-from notesums.tables import Table
-
-
-def check_table(value):
-    """Raises InvalidTable unless a value is a Table."""
-    if not isinstance(value, Table):
-        raise InvalidTable(value)
 
 
 def check_weighted(value):
@@ -35,31 +31,48 @@ def spread_question(sketch, rule):
     return found - mean * mean
 
 
-def spread_of(sketch, rule, table):
-    """The spread at a table, for a rule of the sketch."""
-    answers = answers_of(sketch, rule, table)
-    squares, mean = Ratio(0), Ratio(0)
-    for name, weight, _ in sketch.walk():
-        squares = squares + weight * answers[name] * answers[name]
-        mean = mean + weight * answers[name]
-    return squares - mean * mean
+def whole_parts(sketch, rule, many, bottom):
+    """The tuples (weight times many, weights of the formula times bottom, note) of all seeds; both are integers."""
+    found = []
+    for name, weight, note in sketch.walk():
+        found.append(((weight * many).top, tops_of(rule.formula(name) * bottom), note))
+    return found
+
+
+def answer_of(tops, shown):
+    """The value of the weights of a formula for what is shown."""
+    numbers = {position_key(position): shown[position] for position in range(len(shown))}
+    return sum([tops[product] * worth(product, numbers) for product in tops])
+
+
+def spread_of(sketch, rule, pairs):
+    """The sum of the spreads at weighted tables, for a rule of the sketch; InvalidTable for what is no table."""
+    many = common_bottom([weight for _, weight, _ in sketch.walk()])
+    bottom = 1
+    for name in rule.seeds():
+        bottom = lcm(bottom, bottom_of(rule.formula(name)))
+    # Integers until the end: in a Ratio great numbers would be divided again and again.
+    parts = whole_parts(sketch, rule, many, bottom)
+    found = Ratio(0)
+    for table, times in pairs:
+        answers = [(weight, answer_of(tops, note.shows(table))) for weight, tops, note in parts]
+        squares = sum([weight * answer * answer for weight, answer in answers])
+        mean = sum([weight * answer for weight, answer in answers])
+        found = found + as_ratio(times) * (many * squares - mean * mean)
+    return found.over(many * many * bottom * bottom)
 
 
 def spread_at(sketch, rule, table):
     """The spread of a rule at a table."""
     check_rule(sketch, rule)
-    check_table(table)
-    return spread_of(sketch, rule, table)
+    return spread_of(sketch, rule, [(table, 1)])
 
 
 def spread_over(sketch, rule, tables):
     """The sum of the spreads of a rule at weighted tables."""
     check_rule(sketch, rule)
     check_weighted(tables)
-    found = Ratio(0)
-    for table, weight in tables:
-        found = found + spread_of(sketch, rule, table) * weight
-    return found
+    return spread_of(sketch, rule, tables)
 
 
 def spread_rule(sketch, rule):
@@ -78,7 +91,6 @@ def spread_rule(sketch, rule):
 def is_steady(sketch, rule, table):
     """Whether the formulas of all seeds have the same value at a table."""
     check_rule(sketch, rule)
-    check_table(table)
     answers = answers_of(sketch, rule, table)
     first = answers[sketch.seeds()[0]]
     return all([answers[name] == first for name in answers])

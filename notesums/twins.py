@@ -1,9 +1,9 @@
 """Exact twins: two stacks of tables that no seed tells apart."""
 
-from notesums.boxes import check_tables, checked_tables, shown_lines
+from notesums.boxes import checked_tables, shown_lines
 from notesums.errors import InvalidCount, InvalidStack, InvalidTable, NotPlain
 from notesums.grids import has_different_tables, small_tables, table_key, value_line
-from notesums.limits import DEGREE, KEYS, check_degree, check_many, checked_keys, keys_of
+from notesums.limits import checked_keys, keys_of
 from notesums.ratios import Ratio, is_integer
 from notesums.spans import Span, parting
 from notesums.tables import Table
@@ -119,10 +119,8 @@ def failing_size(sketch, question, *, limit=2):
     if not is_integer(limit) or limit < 0:
         raise InvalidCount(limit)
     keys = keys_of([sketch, question])
-    check_many("keys", KEYS, len(keys))
-    check_tables({key: limit for key in keys})
-    check_degree(keys, question.degree, DEGREE)
-    if not keys or not has_twins(sketch, question, keys, limit):
+    # The greatest box first: it raises TooMany, and it has twins if a smaller one has.
+    if not has_twins(sketch, question, keys, limit):
         return None
     size = 0
     while not has_twins(sketch, question, keys, size):

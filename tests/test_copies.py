@@ -197,7 +197,8 @@ class Judging(unittest.TestCase):
         for question, many, value in (
             (A * B, 1, {("s0", "s1"): P * Q}), (A * B, 2, {("s1", "s0"): P * Q}), (A * B, 2, {("s0", "s1"): P}),
             (A * B, 2, {("s0", "s0"): P * Q}), (A * B, 2, {("s0", "s1"): P * Question.of_key("p2")}), (A, 1, {}),
-            (A * B, 2, {("s0", "s1"): A * B}), (A, 1, {("s0",): P, ("s2",): P}), (A, 1, {("s0",): P, (): A}),
+            (A * B, 2, {("s0", "s1"): A * B}), (A, 1, {("s0",): P, ("s2",): P}), (A, 1, {("s0",): P, ("s2",): NOTHING}),
+            (A, 2, {("s0",): P, ("a", "s0"): NOTHING}), (A, 1, {("s0",): P, (): A}),
             (A, 1, {("s0",): P, (): P * 0 + 1}), (A, 1, {("s0",): P, ("s1",): 0}), (A, 1, {("s0",): P, ("s1",): None}),
             (A, 1, {"s0": P}), (A, 1, {("s0",): P, "s1": NOTHING}), (A, 1, {("s0",): P, (1,): NOTHING}),
             (A, 1, {("s0",): P, (True,): NOTHING}), (A, 1, {("s0",): P, None: NOTHING}), (A, 0, {("s0",): P}),
