@@ -41,7 +41,8 @@ def products_of_sums(sums, degree):
         longer = {}
         for places in found:
             for position in range(places[-1] if places else 0, len(sums)):
-                longer[(*places, position)] = multiplied(found[places], sums[position])
+                grown = (*places, position)
+                longer[grown] = multiplied(found[places], sums[position])
         found = longer
     return found
 
