@@ -1,6 +1,7 @@
 """Formulas: questions over p0, p1, .., which stand for the sums of a note."""
 
 from notesums.questions import Question
+from notesums.tables import Table
 
 
 def position_key(position):
@@ -29,6 +30,11 @@ def formula_of(terms):
 def put_sums(formula, questions):
     """The formula with the sums, as questions, put for its keys."""
     return formula.put({position_key(position): questions[position] for position in range(len(questions))})
+
+
+def formula_at(formula, shown):
+    """The value of the formula for a tuple of shown numbers."""
+    return formula.at(Table({position_key(position): shown[position] for position in range(len(shown))}))
 
 
 def shifted(formula, own, others):

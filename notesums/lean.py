@@ -8,7 +8,7 @@ from notesums.limits import DEGREE, KEYS, SUMS, check_degree, check_many, checke
 from notesums.notes import Note, check_sums
 from notesums.questions import Question
 from notesums.ratios import is_integer
-from notesums.reach import Reached, rows_among, unreached_degrees
+from notesums.reach import Reached, degrees_of, reached_from, rows_of_sums, unreached_degrees
 from notesums.sketches import Sketch
 
 
@@ -27,11 +27,6 @@ def with_sums(sketch, sums):
     return Sketch([(name, weight, note + more) for name, weight, note in sketch.walk()])
 
 
-def rows_of_sums(sums, keys):
-    """The rows of sums that are dicts."""
-    return rows_among([{(key,): row[key] for key in row} for row in sums], keys)
-
-
 def needed_of_note(sums, others, keys, questions):
     """The sums of a note that are left; the others are left out from the last to the first one."""
     if others.has_all(questions):
@@ -46,16 +41,6 @@ def needed_of_note(sums, others, keys, questions):
     return kept
 
 
-def reached_from(rows, keys, most):
-    """For each position what the notes from there on reach, and nothing at the end."""
-    found = [Reached(keys, most)]
-    for sums in reversed(rows):
-        longer = found[-1].twin()
-        longer.take(sums)
-        found.append(longer)
-    return list(reversed(found))
-
-
 def lean(sketch, questions):
     """The sketch without the sums that the questions do not need."""
     if not isinstance(questions, (list, tuple)):
@@ -64,10 +49,10 @@ def lean(sketch, questions):
         if not isinstance(question, Question):
             raise InvalidQuestion(question)
     keys = checked_keys(sketch, questions)
-    most = max([question.degree for question in questions], default=-1)
-    later = reached_from(rows_of(sketch), keys, most)
+    degrees = degrees_of(questions)
+    later = reached_from(rows_of(sketch), keys, degrees)
     answered = [question for question in questions if later[0].has_all([question])]
-    before = Reached(keys, most)
+    before = Reached(keys, degrees)
     seeds = []
     for name, weight, note in sketch.walk():
         others = later[len(seeds) + 1].twin()

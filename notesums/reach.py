@@ -29,6 +29,11 @@ def rows_among(sums, keys):
     return found
 
 
+def rows_of_sums(sums, keys):
+    """The rows of sums that are dicts."""
+    return rows_among([{(key,): row[key] for key in row} for row in sums], keys)
+
+
 def line_of(tops, products):
     """The weights of products, one behind the other."""
     return [tops.get(product, 0) for product in products]
@@ -80,14 +85,18 @@ def unreached_degrees(notes, keys, question):
     return [degree for degree in question.parts() if not is_reached(notes, keys, question, degree)]
 
 
-def base_of(span, keys, degree):
-    """The reduced rows of a span, as questions."""
-    products = products_of(keys, degree)
+def questions_of_rows(span, products):
+    """The reduced rows of a span of weights of these products, as questions."""
     found = []
     for lead in span.leads():
         row = span.row(lead)
         found.append(question_of({product: number for product, number in zip(products, row)}, row[lead]))
     return found
+
+
+def base_of(span, keys, degree):
+    """The reduced rows of a span of questions of a degree, as questions."""
+    return questions_of_rows(span, products_of(keys, degree))
 
 
 def independent_positions(sums, keys):
@@ -144,35 +153,71 @@ def reaching_formulas(named, keys, question):
     return {name: formula_of(terms[name]) for name in terms}
 
 
-class Reached:
-    """What notes reach in each degree, note by note."""
+def take_rows(span, other):
+    """Takes into a span all rows of another one."""
+    for lead in other.leads():
+        span.take(other.row(lead))
 
-    def __init__(self, keys, most):
-        self._keys = keys
-        self._products = [products_of(keys, degree) for degree in range(most + 1)]
-        self._spans = [Span(len(products)) for products in self._products]
+
+def degrees_of(questions):
+    """The sorted list of the degrees of all parts of questions."""
+    return sorted(set([degree for question in questions for degree in question.parts()]))
+
+
+class Reached:
+    """What notes reach in each of some degrees, note by note."""
+
+    def __init__(self, keys, degrees):
+        self._degrees = degrees
+        self._products = {degree: products_of(keys, degree) for degree in degrees}
+        self._spans = {degree: Span(len(self._products[degree])) for degree in degrees}
 
     def take(self, sums):
         """Takes what one more note reaches."""
-        for degree, span in enumerate(self._spans):
-            extend_reach(span, sums, self._products[degree], degree)
+        for degree in self._degrees:
+            extend_reach(self._spans[degree], sums, self._products[degree], degree)
 
     def take_all(self, other):
-        """Takes what another one has reached."""
-        for mine, yours in zip(self._spans, other._spans):
-            for lead in yours.leads():
-                mine.take(yours.row(lead))
+        """Takes what another one, of the same degrees, has reached."""
+        for degree in self._degrees:
+            mine, yours = self._spans[degree], other._spans[degree]
+            if not mine.is_full():
+                take_rows(mine, yours)
 
     def has_all(self, questions):
-        """Whether all questions, none of a greater degree, are reached."""
+        """Whether all questions, with parts of these degrees only, are reached."""
         for question in questions:
             tops = tops_of(question)
-            if not all([span.has(line_of(tops, products)) for span, products in zip(self._spans, self._products)]):
+            if not all([self._spans[degree].has(line_of(tops, self._products[degree])) for degree in question.parts()]):
                 return False
         return True
 
     def twin(self):
         """Another one that has reached the same."""
-        other = Reached(self._keys, len(self._spans) - 1)
-        other._spans = [span.twin() for span in self._spans]
+        other = Reached([], [])
+        other._degrees, other._products = self._degrees, self._products
+        other._spans = {degree: self._spans[degree].twin() for degree in self._degrees}
         return other
+
+
+def reached_from(rows, keys, degrees):
+    """For each position what the notes from there on reach, and nothing at the end."""
+    found = [Reached(keys, degrees)]
+    for sums in reversed(rows):
+        longer = found[-1].twin()
+        longer.take(sums)
+        found.append(longer)
+    return list(reversed(found))
+
+
+def reached_by_others(rows, keys, degrees):
+    """For each position what all notes but this one reach."""
+    later = reached_from(rows, keys, degrees)
+    before = Reached(keys, degrees)
+    found = []
+    for at in range(len(rows)):
+        others = later[at + 1].twin()
+        others.take_all(before)
+        found.append(others)
+        before.take(rows[at])
+    return found

@@ -1,12 +1,11 @@
 """Rules: a formula for each seed of a sketch."""
 
 from notesums.errors import InvalidNumber, InvalidRule, UnknownSeed
-from notesums.formulas import is_formula, position_key, put_sums
+from notesums.formulas import formula_at, is_formula, put_sums
 from notesums.limits import SUMS
 from notesums.names import is_name
 from notesums.questions import Question
 from notesums.ratios import Ratio, is_number
-from notesums.tables import Table
 
 
 def is_formulas(value):
@@ -79,12 +78,7 @@ def check_rule(sketch, rule):
 
 def answers_of(sketch, rule, table):
     """The dict from the seeds to the values of their formulas for a table; InvalidTable for what is none."""
-    found = {}
-    for seed, _, note in sketch.walk():
-        shown = note.shows(table)
-        counts = {position_key(position): shown[position] for position in range(len(shown))}
-        found[seed] = rule.formula(seed).at(Table(counts))
-    return found
+    return {seed: formula_at(rule.formula(seed), note.shows(table)) for seed, _, note in sketch.walk()}
 
 
 def mean_of(sketch, rule):

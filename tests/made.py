@@ -179,3 +179,30 @@ def tables_up_to(keys, most, least=0):
 def sum_of_counts(table):
     """The sum of the numbers of a table."""
     return sum(table.counts().values())
+
+
+def reduced(lines):
+    """The reduced rows of lists of numbers, by elimination with Fractions: each begins with 1, alone in its place."""
+    found = []
+    for line in lines:
+        line = [Fraction(number) for number in line]
+        for at, row in found:
+            line = [x - line[at] * y for x, y in zip(line, row)]
+        lead = next((at for at, number in enumerate(line) if number), None)
+        if lead is not None:
+            line = [number / line[lead] for number in line]
+            found = [(at, [x - row[lead] * y for x, y in zip(row, line)]) for at, row in found]
+            found.append((lead, line))
+    return [row for _, row in sorted(found)]
+
+
+def named(keys):
+    """Questions for keys of one letter, in a list."""
+    return [Question.of_key(key) for key in keys]
+
+
+def subsets(names):
+    """All sets of names but the empty one, as sorted tuples, by length and then as tuples."""
+    names = sorted(names)
+    found = [tuple(name for at, name in enumerate(names) if bits >> at & 1) for bits in range(1, 1 << len(names))]
+    return sorted(found, key=lambda some: (len(some), some))
