@@ -29,6 +29,25 @@ FUNCTIONS = {
         "is_copies_twins(sketch, question, many, value)", "rule_of_copies(sketch, question, many)",
         "unseen_base(sketch)", "is_unseen(sketch, value)", "unseen_pair(sketch, question)",
     ],
+    "makers": [
+        "sample(keys, many)", "signs(keys)", "buckets(keys, many)", "signed_buckets(keys, many)",
+        "weighted(*notes, **weights)",
+    ],
+    "tying": ["tied(sketch, names)", "own(sketch, names)", "tied_joins(sketch, names)", "tying_loses(sketch, names)"],
+    "enough": [
+        "is_enough(sketch, question, seeds)", "least_sets(sketch, question)", "greatest_sets(sketch, question)",
+        "needed_seeds(sketch, question)", "needed_sums(sketch, question)", "needed_keys(sketch, question)",
+    ],
+    "kept": ["tried(kept, changes, *, rule=None)"],
+    "turns": [
+        "keeps(sketch, renaming)", "matching(sketch, renaming)", "renamings(sketch)", "renamings_of(sketch, question)",
+        "averaged(question, group)",
+    ],
+    "texts": [
+        "table_text(table)", "sum_text(row)", "note_text(note)", "sketch_text(sketch)", "rule_text(rule)",
+        "read_question(text)", "read_table(text)", "read_note(text)", "read_sketch(text)", "read_rule(text)",
+    ],
+    "judge": ["is_claim(value)", "is_certificate(claim, value)", "certificate_of(claim)"],
     "lean": [
         "without_sum(sketch, seed, position)", "with_sums(sketch, sums)", "lean(sketch, questions)",
         "least_additions(sketch, question, sums)",
@@ -72,8 +91,17 @@ METHODS = {
         "__init__(self, formulas)", "formula(self, seed)", "seeds(self)", "fits(self, sketch)", "degree", "__add__",
         "__sub__", "__mul__", "__repr__", "__eq__",
     ],
+    ("kept", "Kept"): [
+        "__init__(self, sketch, seed)", "sketch", "seed", "shown", "rule", "use(self, rule)", "change(self, key, number)",
+        "add(self, table)", "take_in(self, other)", "answer(self)", "copy(self)", "trial(self)",
+        "of_table(sketch, table)", "average(kept)", "__repr__", "__eq__",
+    ],
+    ("desk", "Desk"): [
+        "__init__(self)", "do(self, command)", "do_all(self, commands)", "undo(self)", "log(self)",
+        "tried(self, commands)", "names(self)", "__eq__",
+    ],
 }
-PROPERTIES = ["top", "bottom", "sign", "is_plain", "degree"]
+PROPERTIES = ["top", "bottom", "sign", "is_plain", "degree", "sketch", "seed", "shown", "rule"]
 
 
 def defined(file):
@@ -108,6 +136,11 @@ class Interface(unittest.TestCase):
                     if rest:
                         self.assertEqual(str(inspect.signature(getattr(found, name))), f"({rest}")
                     self.assertEqual(isinstance(vars(found)[name], property), name in PROPERTIES)
+
+    def test_ways_to_call(self):
+        from notesums.kept import Kept
+        self.assertIsInstance(vars(Kept)["of_table"], classmethod)
+        self.assertIsInstance(vars(Kept)["average"], staticmethod)
 
     def test_the_package_is_one_folder(self):
         files = sorted(name for name in os.listdir(FOLDER) if name != "__pycache__")
