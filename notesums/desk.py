@@ -102,7 +102,7 @@ def answer_to(action, found, more):
 def performed(held, command):
     """The tuple of the answer to a command and of what is held then, None if the command changes nothing."""
     form = form_of(command)
-    if form.new is not None and form.new in held:
+    if form.new in held:
         raise NameTaken(form.new)
     found = [held_as(held, name, kind) for name, kind in form.needed]
     if form.action == "drop":

@@ -136,7 +136,7 @@ def are_greater_seeds(sketch, other, value):
     """Whether any value is a tuple with a seed of the sketch for each seed of the other one, whose rows it reaches."""
     if not isinstance(value, tuple) or len(value) != len(other):
         return False
-    if not all([isinstance(seed, str) and seed in sketch.seeds() for seed in value]):
+    if not all([seed in sketch.seeds() for seed in value]):
         return False
     return all([lies_in(note, sketch.note(seed)) for (_, _, note), seed in zip(other.walk(), value)])
 

@@ -132,11 +132,15 @@ class Asked(Errors):
     def test_each_question(self):
         desk = desk_with(*FILLED, "question nothing 0", "question c c", "question done done", "table e {}")
         for command, answer in (
-                ("can s q", "yes"), ("can s sq", "no"), ("can one q", "no"), ("copies s q", "1"), ("copies s sq", "2"), ("copies s c", "never"),
-                ("copies s nothing", "0"), ("remainder s q", "0"), ("remainder s sq", "-b*b"), ("remainder s c", "c"), ("sets s q", "s0+s1"),
+                ("can s q", "yes"), ("can s sq", "no"), ("can one q", "no"), ("copies s q", "1"), ("copies s sq", "2"),
+                ("copies s c", "never"),
+                ("copies s nothing", "0"), ("remainder s q", "0"), ("remainder s sq", "-b*b"), ("remainder s c", "c"),
+                ("sets s q", "s0+s1"),
                 ("sets s sq", "none"), ("sets s nothing", "s0 s1"), ("sets one sq", "s0"), ("rule s sq", "none"),
-                ("rule s nothing", "rule s0 0\nrule s1 0\n"), ("shows s s0 t", "2"), ("shows s s1 t", "4"), ("shows only1 s1 e", "0"),
-                ("value q t", "-3"), ("value sq t", "9"), ("value nothing t", "0"), ("value c t", "0"), ("remainder s done", "done")):
+                ("rule s nothing", "rule s0 0\nrule s1 0\n"), ("shows s s0 t", "2"), ("shows s s1 t", "4"),
+                ("shows only1 s1 e", "0"),
+                ("value q t", "-3"), ("value sq t", "9"), ("value nothing t", "0"), ("value c t", "0"),
+                ("remainder s done", "done")):
             self.assertEqual(desk.do(command), answer, command)
             self.assertEqual(desk.do_all([command, command]), [answer, answer])
         self.assertEqual(len(desk.log()), len(FILLED) + 4)
@@ -148,7 +152,8 @@ class Asked(Errors):
         self.assertTrue(is_rule(signs(["a", "b"]), A * B, found))
 
     def test_sums_of_any_number(self):
-        desk = desk_with("sketch m sample 2 a b c", "table t {a: 1, b: -20, c: 300}", "sketch one sample 1 a b c", "sketch two merged one m",
+        desk = desk_with("sketch m sample 2 a b c", "table t {a: 1, b: -20, c: 300}", "sketch one sample 1 a b c",
+                "sketch two merged one m",
                          "question h 1/2*a", "sketch both sample 1 a", "sketch s2 signs a b", "question s2q a")
         self.assertEqual(desk.do("shows m s1 t"), "1, 300")
         self.assertEqual(desk.do("shows two s2 t"), "300, -20, 300")
@@ -172,7 +177,8 @@ class Asked(Errors):
             self.assertEqual(desk.do(f"sets bu {name}"), " ".join("+".join(seeds) for seeds in sets) or "none")
 
     def test_errors(self):
-        desk = desk_with(*FILLED, "sketch nine sample 1 a b c d e f", "question deep a*a*a*a*a", "question g f + e + d + c + b + a",
+        desk = desk_with(*FILLED, "sketch nine sample 1 a b c d e f", "question deep a*a*a*a*a",
+                "question g f + e + d + c + b + a",
                          "question z z", "sketch big sample 4 a b c d e")
         self.raises(TooMany, desk, "can s deep", kind="degree", limit=4)
         self.raises(TooMany, desk, "rule nine z", kind="keys", limit=6)
@@ -194,11 +200,14 @@ class Forms(Errors):
         self.assertEqual(told(desk), before)
 
     def test_no_commands(self):
-        self.wrong([None, True, 0, 1, b"drop s", [], ["drop s"], ("drop s",), {}, Odd(), A, Table(), "", " ", "x", "done", "undo", "log", "names",
-                    "Sketch n signs a", "sketches n signs a", "drops s", "sketch", "question", "table", "drop", "can", "value"])
+        self.wrong([None, True, 0, 1, b"drop s", [], ["drop s"], ("drop s",), {}, Odd(), A, Table(), "", " ", "x",
+                "done", "undo", "log", "names",
+                    "Sketch n signs a", "sketches n signs a", "drops s", "sketch", "question", "table", "drop", "can",
+                    "value"])
 
     def test_spaces(self):
-        for command in ("sketch n signs a b", "sketch n sample 1 a b", "sketch n merged s s", "sketch n copies s 1", "sketch n only s s0", "drop s",
+        for command in ("sketch n signs a b", "sketch n sample 1 a b", "sketch n merged s s", "sketch n copies s 1",
+                "sketch n only s s0", "drop s",
                         "question n a*b", "table n {}", *ASKING):
             spaces = [at for at, sign in enumerate(command) if sign == " "]
             self.wrong([f" {command}", f"{command} ", f"{command}\n", f"\n{command}"])
@@ -206,30 +215,40 @@ class Forms(Errors):
             self.wrong([command[:at] + "\n" + command[at + 1:] for at in spaces])
 
     def test_words_too_many_or_too_few(self):
-        self.wrong(["sketch n", "sketch n sample", "sketch n sample 1", "sketch n sample a b", "sketch n buckets 2", "sketch n signed 2", "sketch n signs",
-                    "sketch n merged s", "sketch n merged s s s", "sketch n paired s", "sketch n paired s one s", "sketch n copies s",
-                    "sketch n copies s 1 1", "sketch n copies 1", "sketch n copies 2 s", "sketch n only s", "sketch n only", "sketch n merged",
-                    "sketch n s", "sketch n sketch s", "sketch n weighted s s", "drop s q", "drop s s", "can s", "can s q q", "copies s", "copies s q 1",
-                    "remainder s", "remainder s q t", "sets s", "sets s q s0", "rule s", "rule s q t", "shows s s0", "shows s t", "shows s s0 t t",
+        self.wrong(["sketch n", "sketch n sample", "sketch n sample 1", "sketch n sample a b", "sketch n buckets 2",
+                "sketch n signed 2", "sketch n signs",
+                    "sketch n merged s", "sketch n merged s s s", "sketch n paired s", "sketch n paired s one s",
+                    "sketch n copies s",
+                    "sketch n copies s 1 1", "sketch n copies 1", "sketch n copies 2 s", "sketch n only s",
+                    "sketch n only", "sketch n merged",
+                    "sketch n s", "sketch n sketch s", "sketch n weighted s s", "drop s q", "drop s s", "can s",
+                    "can s q q", "copies s", "copies s q 1",
+                    "remainder s", "remainder s q t", "sets s", "sets s q s0", "rule s", "rule s q t", "shows s s0",
+                    "shows s t", "shows s s0 t t",
                     "value q", "value q t t", "question n", "table n", "question", "question n ", "table n "])
 
     def test_names(self):
         for name in NO_NAMES:
             if isinstance(name, str):
-                self.wrong([f"sketch {name} signs a", f"question {name} a", f"table {name} {{}}", f"drop {name}", f"can {name} q", f"can s {name}",
-                            f"value q {name}", f"value {name} t", f"shows s {name} t", f"shows {name} s0 t", f"sketch n merged s {name}",
+                self.wrong([f"sketch {name} signs a", f"question {name} a", f"table {name} {{}}", f"drop {name}",
+                        f"can {name} q", f"can s {name}",
+                            f"value q {name}", f"value {name} t", f"shows s {name} t", f"shows {name} s0 t",
+                            f"sketch n merged s {name}",
                             f"sketch n merged {name} s", f"sketch n copies {name} 1"])
                 if name != "a b":
-                    self.wrong([f"sketch n only {name} s0", f"sketch n signs {name}", f"sketch n signs a {name}", f"sketch n sample 1 {name}", f"sketch n only s {name}"])
+                    self.wrong([f"sketch n only {name} s0", f"sketch n signs {name}", f"sketch n signs a {name}",
+                            f"sketch n sample 1 {name}", f"sketch n only s {name}"])
 
     def test_numbers(self):
         for number in ("00", "01", "-1", "-0", "+1", "1.0", "1/1", "", "a", "1a", "--1", "-", "1e1"):
-            self.wrong([f"sketch n sample {number} a b", f"sketch n buckets {number} a", f"sketch n signed {number} a", f"sketch n copies s {number}"])
+            self.wrong([f"sketch n sample {number} a b", f"sketch n buckets {number} a", f"sketch n signed {number} a",
+                    f"sketch n copies s {number}"])
 
     def test_texts(self):
         for text in ("", " ", "a +  b", "a + b", "b*a", "1*a", "a ", "+a", "0*a", "a - a", "A", "{}", "2/4", "b + a\n"):
             self.wrong([f"question n {text}", f"question s {text}"])
-        for text in ("", " ", "{a:1}", "{a: 0}", "{b: 1, a: 1}", "{a: 1,b: 1}", "{a: 1/2}", "{} ", "[{}]", "a", "0", "{a: 1}\n"):
+        for text in ("", " ", "{a:1}", "{a: 0}", "{b: 1, a: 1}", "{a: 1,b: 1}", "{a: 1/2}", "{} ", "[{}]", "a", "0",
+                "{a: 1}\n"):
             self.wrong([f"table n {text}", f"table s {text}"])
 
     def test_lists(self):
@@ -246,25 +265,34 @@ class Forms(Errors):
 class Sequence(Errors):
     def test_the_form_comes_first(self):
         desk = desk_with(*FILLED)
-        for command in ("sketch s merged x", "sketch s copies x 01", "question s a*", "table q {a}", "drop x y", "can x"):
+        for command in ("sketch s merged x", "sketch s copies x 01", "question s a*", "table q {a}", "drop x y",
+                "can x"):
             self.raises(InvalidCommand, desk, command, value=command)
 
     def test_then_names_that_are_taken(self):
         desk = desk_with(*FILLED)
         for name in NAMES:
-            for words in (f"sketch {name} signs a a", f"sketch {name} sample 0 a", f"sketch {name} merged x y", f"sketch {name} copies x 0",
-                          f"sketch {name} only {name} x", f"question {name} a", f"table {name} {{}}", f"sketch {name} signs a b c d e f g"):
+            for words in (f"sketch {name} signs a a", f"sketch {name} sample 0 a", f"sketch {name} merged x y",
+                    f"sketch {name} copies x 0",
+                          f"sketch {name} only {name} x", f"question {name} a", f"table {name} {{}}",
+                          f"sketch {name} signs a b c d e f g"):
                 self.raises(NameTaken, desk, words, name=name)
 
     def test_then_names_that_are_not_known(self):
         desk = desk_with(*FILLED)
         for command, name in (
-                ("sketch n merged x y", "x"), ("sketch n merged s y", "y"), ("sketch n merged q t", "q"), ("sketch n paired s t", "t"),
-                ("sketch n merged n s", "n"), ("sketch n copies x 0", "x"), ("sketch n copies q 0", "q"), ("sketch n only x s0 s0", "x"),
-                ("sketch n only t s0", "t"), ("can x y", "x"), ("can s y", "y"), ("can q s", "q"), ("can s s", "s"), ("can s t", "t"),
-                ("copies x q", "x"), ("copies s t", "t"), ("remainder t q", "t"), ("remainder s s", "s"), ("sets x q", "x"), ("sets s x", "x"),
-                ("rule q q", "q"), ("rule s x", "x"), ("shows x s9 y", "x"), ("shows s s9 y", "y"), ("shows s s9 q", "q"), ("shows t s0 t", "t"),
-                ("value x y", "x"), ("value q y", "y"), ("value t q", "t"), ("value s t", "s"), ("value q q", "q"), ("drop x", "x"), ("drop n", "n")):
+                ("sketch n merged x y", "x"), ("sketch n merged s y", "y"), ("sketch n merged q t", "q"),
+                ("sketch n paired s t", "t"),
+                ("sketch n merged n s", "n"), ("sketch n copies x 0", "x"), ("sketch n copies q 0", "q"),
+                ("sketch n only x s0 s0", "x"),
+                ("sketch n only t s0", "t"), ("can x y", "x"), ("can s y", "y"), ("can q s", "q"), ("can s s", "s"),
+                ("can s t", "t"),
+                ("copies x q", "x"), ("copies s t", "t"), ("remainder t q", "t"), ("remainder s s", "s"),
+                ("sets x q", "x"), ("sets s x", "x"),
+                ("rule q q", "q"), ("rule s x", "x"), ("shows x s9 y", "x"), ("shows s s9 y", "y"),
+                ("shows s s9 q", "q"), ("shows t s0 t", "t"),
+                ("value x y", "x"), ("value q y", "y"), ("value t q", "t"), ("value s t", "s"), ("value q q", "q"),
+                ("drop x", "x"), ("drop n", "n")):
             self.raises(UnknownName, desk, command, value=name)
 
 
@@ -278,14 +306,17 @@ class Undone(Errors):
         self.assertEqual(desk.do("table q {b: 5}"), "done")
         self.raises(UnknownName, desk, "can s q", value="q")
         self.assertEqual(desk.do("shows s s1 q"), "-5")
-        self.assertEqual(desk.do_all(["drop q", "question q b", "value q t", "drop s", "drop t", "sketch t signs b", "can t q"]),
+        self.assertEqual(desk.do_all(["drop q", "question q b", "value q t", "drop s", "drop t", "sketch t signs b",
+                "can t q"]),
                          ["done", "done", "-1", "done", "done", "done", "yes"])
         # What was made of a sketch stays.
         self.assertEqual(desk.do_all(["table u {a: 1}", "shows only1 s1 u"]), ["done", "1"])
 
     def test_each_command(self):
-        for command in ("sketch n signs a b", "sketch n sample 1 a", "sketch n buckets 2 a", "sketch n signed 2 a", "sketch n merged s one",
-                        "sketch n paired s one", "sketch n copies s 2", "sketch n only s s0", "question n a", "table n {a: 1}", "drop s", "drop q", "drop t"):
+        for command in ("sketch n signs a b", "sketch n sample 1 a", "sketch n buckets 2 a", "sketch n signed 2 a",
+                "sketch n merged s one",
+                        "sketch n paired s one", "sketch n copies s 2", "sketch n only s s0", "question n a",
+                        "table n {a: 1}", "drop s", "drop q", "drop t"):
             desk = desk_with(*FILLED)
             before = told(desk)
             self.assertEqual(desk.do(command), "done")
@@ -344,7 +375,8 @@ class Lists(Errors):
     def test_one_of_which_raises(self):
         desk = desk_with(*FILLED)
         before = told(desk)
-        for wrong, error in (("drop q", UnknownName), ("table t {}", NameTaken), ("x", InvalidCommand), ("sketch n sample 0 a", InvalidCount),
+        for wrong, error in (("drop q", UnknownName), ("table t {}", NameTaken), ("x", InvalidCommand),
+                ("sketch n sample 0 a", InvalidCount),
                              ("shows s s5 t", UnknownSeed), (None, InvalidCommand)):
             for call in (desk.do_all, desk.tried):
                 with self.assertRaises(error):
@@ -355,7 +387,8 @@ class Lists(Errors):
         desk = desk_with(*FILLED)
         before = told(desk)
         for _ in range(2):
-            self.assertEqual(desk.tried(["drop q", "question q b", "value q t", "drop s", "drop t"]), ["done", "done", "-1", "done", "done"])
+            self.assertEqual(desk.tried(["drop q", "question q b", "value q t", "drop s", "drop t"]),
+                    ["done", "done", "-1", "done", "done"])
             self.assertEqual(told(desk), before)
 
     def test_the_log_done_again(self):
@@ -397,7 +430,8 @@ class Lists(Errors):
 
 class Numbers(unittest.TestCase):
     def test_weights_by_the_questions(self):
-        desk = desk_with("question q 7/3*a - 1/2", "table t {a: -3}", "table u {a: 1}", f"question g {10 ** 30}*a*a", f"table v {{a: {10 ** 29}}}")
+        desk = desk_with("question q 7/3*a - 1/2", "table t {a: -3}", "table u {a: 1}", f"question g {10 ** 30}*a*a",
+                f"table v {{a: {10 ** 29}}}")
         self.assertEqual([desk.do("value q t"), desk.do("value q u")], ["-15/2", "11/6"])
         self.assertEqual(desk.do("value g v"), str(10 ** 88))
         self.assertEqual(Ratio(-15, 2), A.put({"a": Ratio(-15, 2)}).at(Table()))

@@ -122,7 +122,8 @@ class Sets(unittest.TestCase):
     def test_what_needs_nothing(self):
         for question in (NOTHING, ONE, ONE * Ratio(-1, 3)):
             self.assertEqual((least_sets(COIN, question), greatest_sets(COIN, question)), ([("s0",), ("s1",)], []))
-            self.assertEqual((least_sets(sketch_of([]), question), greatest_sets(sketch_of([]), question)), ([("s0",)], []))
+            self.assertEqual((least_sets(sketch_of([]), question), greatest_sets(sketch_of([]), question)),
+                    ([("s0",)], []))
 
     def test_weights_have_no_part(self):
         other = sketch_of(*[note for _, _, note in COIN.walk()], weights=[Ratio(1, 9), Ratio(8, 9)])

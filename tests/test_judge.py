@@ -24,7 +24,8 @@ from wrong import NO_INTEGERS, NO_NAMES, Odd, refused
 NOTHING = Question()
 A, B, C, P = named(["a", "b", "c", "p0"])
 COIN, APART = signs(["a", "b"]), sample(["a", "b"], 1)
-OPPOSITES = {"answered": "not answered", "on the box": "not on the box", "by copies": "more copies", "enough": "not enough"}
+OPPOSITES = {"answered": "not answered", "on the box": "not on the box", "by copies": "more copies",
+        "enough": "not enough"}
 BOX = {"a": 1, "b": 1}
 TABLES = [(Table({"a": 1}), 1), (Table({"b": 1}), Ratio(1, 2))]
 LEAST = least_spread(APART, A + B, TABLES, 1)[0]
@@ -34,7 +35,8 @@ CLAIMS = [
     ("enough", APART, A, ("s0",)), ("not enough", APART, A, ("s1",)),
     ("least spread", APART, A + B, TABLES, 1, LEAST), ("as much", sample(["a", "b"], 2), COIN),
 ]
-STRANGE = [None, True, 0, 1, "", "s0", "answered", [], (), (1,), ("s0",), ({}, {}), ([], []), {}, {"s0": A}, {(): A}, {1: 2}, Odd(),
+STRANGE = [None, True, 0, 1, "", "s0", "answered", [], (), (1,), ("s0",), ({}, {}), ([], []), {}, {"s0": A}, {(): A},
+        {1: 2}, Odd(),
            COIN, A, Table(), Note([]), Ratio(1), Rule({}), Rule({"zz": P}), ([(Table(), 1)], []), str]
 
 
@@ -48,7 +50,8 @@ class Claims(unittest.TestCase):
             self.assertIs(is_claim(claim), True, claim[0])
             self.assertIs(is_claim(value=claim), True)
         for claim in (("on the box", COIN, NOTHING, {}), ("by copies", COIN, C, 0), ("more copies", COIN, C, 10 ** 25),
-                      ("enough", COIN, C, ("s0", "s1")), ("as much", COIN, COIN), ("not on the box", COIN, C, {"z": 80}),
+                      ("enough", COIN, C, ("s0", "s1")), ("as much", COIN, COIN),
+                      ("not on the box", COIN, C, {"z": 80}),
                       ("least spread", COIN, C, tuple(TABLES), 0, Ratio(-5)),
                       ("least spread", COIN, A, [(Table({"a": -1}), 1), (Table({"a": -1}), 1)], 2, Ratio(0))):
             self.assertIs(is_claim(claim), True, claim)
@@ -66,7 +69,8 @@ class Claims(unittest.TestCase):
             self.wrong([list(claim), {claim[0]: claim[1:]}, str(claim[0])])
 
     def test_other_first_words(self):
-        for word in ("", "Answered", "answered ", "not", "box", "more", "least", "as much as", "answers", None, True, 0, 1, [], ("answered",),
+        for word in ("", "Answered", "answered ", "not", "box", "more", "least", "as much as", "answers", None, True, 0,
+                1, [], ("answered",),
                      {"answered"}, Odd(), COIN, A):
             self.wrong([(word, COIN, A), (word, COIN, A, 1), (word, COIN, COIN), (word, COIN, A, BOX), (word,)])
 
@@ -83,7 +87,8 @@ class Claims(unittest.TestCase):
         self.wrong([("answered", A, COIN), ("as much", COIN, A), ("answered", COIN, COIN), ("answered", COIN, 1)])
 
     def test_boxes(self):
-        boxes = [None, True, 1, "a", [], [("a", 1)], ("a",), Odd(), Table({"a": 1}), {"a": -1}, {"a": True}, {"a": None}, {"A": 1}, {1: 1}, {"a": Ratio(1)}]
+        boxes = [None, True, 1, "a", [], [("a", 1)], ("a",), Odd(), Table({"a": 1}), {"a": -1}, {"a": True},
+                {"a": None}, {"A": 1}, {1: 1}, {"a": Ratio(1)}]
         for box in boxes:
             self.wrong([("on the box", COIN, A, box), ("not on the box", COIN, A, box)])
 
@@ -93,14 +98,17 @@ class Claims(unittest.TestCase):
                         ("least spread", APART, A + B, TABLES, many, LEAST)])
 
     def test_sets_of_seeds(self):
-        sets = [(), [], ["s0"], ("s1", "s0"), ("s0", "s0"), ("s0", "s2"), ("x",), "s0", {"s0"}, {"s0": 1}, None, 0, ("s0", 1), ("s0", None),
+        sets = [(), [], ["s0"], ("s1", "s0"), ("s0", "s0"), ("s0", "s2"), ("x",), "s0", {"s0"}, {"s0": 1}, None, 0,
+                ("s0", 1), ("s0", None),
                 (("s0",),), (True,), ("s0", "s1", "s1"), Odd()]
         for seeds in sets:
             self.wrong([("enough", COIN, A, seeds), ("not enough", COIN, A, seeds)])
 
     def test_tables_and_values(self):
-        tables = [None, True, 1, "a", {}, [], (), Table(), [Table()], [(Table(), 0)], [(Table(), -1)], [(Table(), Ratio(-1, 2))], [(Table(), True)],
-                  [(Table(),)], [[Table(), 1]], [({"a": 1}, 1)], TABLES + [None], [(Table(), 1, 1)], [(1, Table())], {Odd: 1}]
+        tables = [None, True, 1, "a", {}, [], (), Table(), [Table()], [(Table(), 0)], [(Table(), -1)],
+                [(Table(), Ratio(-1, 2))], [(Table(), True)],
+                  [(Table(),)], [[Table(), 1]], [({"a": 1}, 1)], TABLES + [None], [(Table(), 1, 1)], [(1, Table())],
+                  {Odd: 1}]
         self.wrong([("least spread", APART, A + B, wrong, 1, LEAST) for wrong in tables])
         values = [None, True, 2, 0, "2", [], Odd(), Table(), A, Question.constant(2)]
         self.wrong([("least spread", APART, A + B, TABLES, 1, wrong) for wrong in values])
@@ -118,7 +126,8 @@ class Claims(unittest.TestCase):
             self.wrong([(kind, COIN, question, ("s0",)) for kind in ("enough", "not enough")])
             self.wrong([("least spread", COIN, question, TABLES, 1, LEAST)])
         for kind in ("on the box", "not on the box"):
-            self.wrong([(kind, COIN, A, {"a": 81}), (kind, COIN, A, {key: 0 for key in "cdefg"}), (kind, COIN, A.power(4), {key: 0 for key in "cde"})])
+            self.wrong([(kind, COIN, A, {"a": 81}), (kind, COIN, A, {key: 0 for key in "cdefg"}),
+                    (kind, COIN, A.power(4), {key: 0 for key in "cde"})])
         self.wrong([(kind, seven, A, 1) for kind in ("by copies", "more copies")])
         self.wrong([("least spread", COIN, A.power(3), TABLES, 1, LEAST), ("least spread", COIN, A, TABLES, 3, LEAST),
                     ("least spread", sketch_of([{"a": 1}] * 8, [{"a": 1}] * 8), A, TABLES, 2, LEAST)])
@@ -191,7 +200,8 @@ class Certificates(unittest.TestCase):
             sketch, question = some_sketch(chance, keys, 3, 2), some_question(chance, keys, 2, 2)
             if chance.random() < 0.7:
                 question = sum([row for _, _, note in sketch.walk() for row in note.questions()], Question.constant(3))
-            tables = [(Table({key: chance.randint(-2, 2) for key in keys}), Ratio(chance.randint(1, 3), 2)) for _ in range(2)]
+            tables = [(Table({key: chance.randint(-2, 2) for key in keys}),
+                    Ratio(chance.randint(1, 3), 2)) for _ in range(2)]
             for degree in (0, 1, 2):
                 if question.degree > degree or not can_answer(sketch, question):
                     with self.assertRaises(NotAnswered):
@@ -232,7 +242,8 @@ class OtherCertificates(unittest.TestCase):
         one, other = moment_twins(COIN, A * A)
         self.assertIs(is_certificate(claim, (other, one)), True)
         self.assertIs(is_certificate(claim, (tuple(one), other)), True)
-        self.no(claim, [(one, one), [one, other], (one,), (one, other, []), (one[1:], other), (one, other + [(Table({"a": 9}), 1)]),
+        self.no(claim, [(one, one), [one, other], (one,), (one, other, []), (one[1:], other),
+                (one, other + [(Table({"a": 9}), 1)]),
                         ([(table, -weight) for table, weight in one], other), (one + one, other + other),
                         ([(table, weight * 2) for table, weight in one], other)])
         self.no(("not answered", APART, A * A), [(one, other)])
@@ -244,7 +255,8 @@ class OtherCertificates(unittest.TestCase):
         other = {seed: dict(rule[seed]) for seed in rule}
         other["s0"][(1,)] = other["s0"][(1,)] + 1
         more = {**rule, "s1": {**rule["s1"], (1,): Ratio(0)}}
-        self.no(claim, [other, more, {"s0": rule["s0"]}, {**rule, "s2": {}}, {**rule, "s1": {(0,): 0}}, rule_for(APART, A)])
+        self.no(claim, [other, more, {"s0": rule["s0"]}, {**rule, "s2": {}}, {**rule, "s1": {(0,): 0}},
+                rule_for(APART, A)])
 
     def test_twins_on_boxes(self):
         claim = ("not on the box", APART, A * B, BOX)
@@ -258,14 +270,24 @@ class OtherCertificates(unittest.TestCase):
         self.assertIs(is_certificate(claim, (extra, also)), True)
         far = (Table({"a": 2}), 1)
         strange = (Table({"z": 1}), 1)
-        self.no(claim, [(one, one), (one[1:], other), [one, other], (one + [far], other + [far]), (one + [strange], other + [strange])])
-        self.assertIs(is_certificate(("not on the box", APART, A * B, {"a": 2, "b": 1}), (one + [far], other + [far])), True)
-        self.assertIs(is_certificate(("not on the box", APART, A * B, {"z": 1, **BOX}), (one + [strange], other + [strange])), True)
+        self.no(claim, [(one, one), (one[1:], other), [one, other], (one + [far], other + [far]),
+                (one + [strange], other + [strange])])
+        self.assertIs(is_certificate(("not on the box", APART, A * B, {"a": 2, "b": 1}), (one + [far], other + [far])),
+                True)
+        self.assertIs(is_certificate(("not on the box", APART, A * B, {"z": 1, **BOX}),
+                (one + [strange], other + [strange])), True)
+
+    def test_one_stack_in_the_box_and_one_beyond(self):
+        total = sketch_of([{"a": 1, "b": 1}])
+        one, other = [(Table({"a": 2}), 1)], [(Table({"b": 2}), 1)]
+        self.no(("not on the box", total, A, {"a": 2, "b": 1}), [(one, other), (other, one)])
+        self.assertIs(is_certificate(("not on the box", total, A, {"a": 2, "b": 2}), (one, other)), True)
 
     def test_copies(self):
         claim = ("by copies", APART, A * B, 2)
         rule = copies_rule(APART, A * B, 2)
-        self.no(claim, [{}, {**rule, (): Question.constant(1)}, {seeds: formula * 2 for seeds, formula in rule.items()}, Rule({})])
+        self.no(claim, [{}, {**rule, (): Question.constant(1)}, {seeds: formula * 2 for seeds, formula in rule.items()},
+                Rule({})])
         self.assertIs(is_certificate(("by copies", APART, A * B, 3), rule), True)
         self.no(("by copies", APART, A * B, 1), [rule])
         twins = certificate_of(("more copies", APART, A * B, 1))
@@ -305,7 +327,8 @@ class OtherCertificates(unittest.TestCase):
         self.assertEqual(certificate_of(claim)[:2], ("s1", "s1"))
         for last in ("s0", "s1"):
             self.assertIs(is_certificate(claim, ("s1", "s1", last)), True)
-        self.no(claim, [("s0", "s1", "s1"), ("s1", "s0", "s1"), ("s1", "s1"), ("s1",) * 4, ["s1"] * 3, ("s1", "s1", "s2"), ("s1", "s1", None),
+        self.no(claim, [("s0", "s1", "s1"), ("s1", "s0", "s1"), ("s1", "s1"), ("s1",) * 4, ["s1"] * 3,
+                ("s1", "s1", "s2"), ("s1", "s1", None),
                         ("s1", "s1", ["s1"]), "s1", ("s1", "s1", 1)])
         self.assertIsNone(certificate_of(("as much", other, one)))
 

@@ -32,7 +32,8 @@ def some_rule(chance, sketch, degree=2):
     formulas = {}
     for seed, _, note in sketch.walk():
         places = [f"p{at}" for at in range(len(note))]
-        formulas[seed] = some_question(chance, places, degree, 3) if places else Question.constant(chance.randint(-3, 3))
+        formulas[seed] = some_question(chance, places, degree,
+                3) if places else Question.constant(chance.randint(-3, 3))
     return Rule(formulas)
 
 
@@ -161,7 +162,8 @@ class Wrong(unittest.TestCase):
         kept = Kept(COIN, "s0")
         kept.use(HALVES)
         wrong = [True, 0, 1, "p0", [], {}, {"s0": P, "s1": P}, Odd(), P, COIN, kept, Rule({}), Rule({"s0": P}),
-                 Rule({"s0": P, "s1": P, "s2": P}), Rule({"s0": P, "x": P}), Rule({"s0": P, "s1": Question.of_key("p1")})]
+                 Rule({"s0": P, "s1": P, "s2": P}), Rule({"s0": P, "x": P}),
+                 Rule({"s0": P, "s1": Question.of_key("p1")})]
         refused(self, InvalidRule, wrong, kept.use)
         self.assertEqual(kept.rule, HALVES)
 
@@ -198,7 +200,8 @@ class Answers(unittest.TestCase):
         table = Table({"a": 2, "b": 5})
         found = Kept.of_table(table=table, sketch=COIN)
         self.assertIs(type(found), list)
-        self.assertEqual([(kept.seed, kept.shown, kept.rule) for kept in found], [("s0", (7,), None), ("s1", (-3,), None)])
+        self.assertEqual([(kept.seed, kept.shown, kept.rule) for kept in found],
+                [("s0", (7,), None), ("s1", (-3,), None)])
         self.assertTrue(all(kept.sketch == COIN for kept in found))
         names = Sketch([("z", Ratio(1, 2), Note([])), ("a", Ratio(1, 2), Note([]))])
         self.assertEqual([kept.seed for kept in Kept.of_table(names, Table())], ["z", "a"])
@@ -238,11 +241,20 @@ class Averages(unittest.TestCase):
         self.assertEqual(Kept.average([other, one]), Ratio(4))
         self.assertEqual(one.average([one, other]), Ratio(4))
 
+    def test_seeds_out_of_order(self):
+        sketch = Sketch([("z", Ratio(1, 3), Note.of_keys("a")), ("b", Ratio(2, 3), Note.of_keys("a"))])
+        kept = Kept.of_table(sketch, Table({"a": 6}))
+        for one in kept:
+            one.use(Rule({"z": P, "b": P * 10}))
+        self.assertEqual([Kept.average(kept), Kept.average(kept[::-1])], [Ratio(42)] * 2)
+
     def test_wrong_lists(self):
         kept = Kept.of_table(COIN, Table({"a": 1}))
         other = Kept.of_table(sketch_of([{"a": 1}], [{"a": 1}]), Table())
-        third = Kept.of_table(sketch_of([{"a": 1, "b": 1}], [{"a": 1, "b": -1}], weights=[Ratio(1, 3), Ratio(2, 3)]), Table())
-        values = NO_KEPT + [kept[:1], kept[1:], kept + kept[:1], [kept[0], kept[0]], [kept[0], other[1]], {"s0": kept[0]},
+        third = Kept.of_table(sketch_of([{"a": 1, "b": 1}], [{"a": 1, "b": -1}], weights=[Ratio(1, 3), Ratio(2, 3)]),
+                Table())
+        values = NO_KEPT + [kept[:1], kept[1:], kept + kept[:1], [kept[0], kept[0]], [kept[0], other[1]],
+                {"s0": kept[0]},
                             [kept[0], third[1]], kept + [None], [None], [kept], kept[0], kept + other, [kept[0], "s1"]]
         refused(self, InvalidKept, values, Kept.average)
 

@@ -141,7 +141,8 @@ class WrittenOut(unittest.TestCase):
         many = 10 ** 29 + 7
         weights = [fraction(weight) for _, weight, _ in buckets(["a", "b", "c"], many).walk()]
         pairs = Fraction(many - 1, many ** 2)
-        self.assertEqual(weights, [Fraction(1, many ** 2), pairs, pairs, pairs, Fraction((many - 1) * (many - 2), many ** 2)])
+        self.assertEqual(weights,
+                [Fraction(1, many ** 2), pairs, pairs, pairs, Fraction((many - 1) * (many - 2), many ** 2)])
         signed = [fraction(weight) for _, weight, _ in signed_buckets(["a", "b", "c"], many).walk()]
         self.assertEqual(signed[:4], [Fraction(1, 4 * many ** 2)] * 4)
         self.assertEqual(signed[4:10], [pairs / 2] * 6)
@@ -171,7 +172,8 @@ class Wrong(unittest.TestCase):
 
     def test_counts(self):
         for make in COUNTED:
-            refused(self, InvalidCount, NO_INTEGERS + [0, -1, -10 ** 25, HALF, Ratio(1)], lambda value: make(["a"], value))
+            refused(self, InvalidCount, NO_INTEGERS + [0, -1, -10 ** 25, HALF, Ratio(1)],
+                    lambda value: make(["a"], value))
             refused(self, InvalidCount, [0, True], lambda value: make(MANY_KEYS, value))
         refused(self, InvalidCount, [3, 10 ** 25], lambda value: sample(["a", "b"], value))
         refused(self, InvalidCount, [201], lambda value: sample(MANY_KEYS, value))

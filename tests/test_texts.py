@@ -17,7 +17,8 @@ from wrong import NO_NAMES, Odd
 
 A, B, P, Q = named(["a", "b", "p0", "p1"])
 READERS = (read_question, read_table, read_note, read_sketch, read_rule)
-NO_STRINGS = [None, True, False, 0, 1, b"a", b"", [], ["0"], (), ("{}",), {}, {"a": 1}, {"a"}, Odd(), A, Table(), Note([]),
+NO_STRINGS = [None, True, False, 0, 1, b"a", b"", [], ["0"], (), ("{}",), {}, {"a": 1}, {"a"}, Odd(), A, Table(),
+        Note([]),
               signs(["a"]), Rule({}), Ratio(1), str]
 COIN_TEXT = "seed s0 1/2 [{a: 1, b: 1}]\nseed s1 1/2 [{a: 1, b: -1}]\n"
 SIGNS = " \n-+*/:;,{}[]0123456789abpsxyz"
@@ -52,7 +53,8 @@ class Written(unittest.TestCase):
     def test_tables_and_sums(self):
         self.assertEqual(table_text(Table({"b": -1, "a": 3})), "{a: 3, b: -1}")
         self.assertEqual(table_text(table=Table()), "{}")
-        self.assertEqual(table_text(Table({"b10": 10 ** 25, "b9": -(10 ** 25)})), f"{{b10: {10 ** 25}, b9: -{10 ** 25}}}")
+        self.assertEqual(table_text(Table({"b10": 10 ** 25, "b9": -(10 ** 25)})),
+                f"{{b10: {10 ** 25}, b9: -{10 ** 25}}}")
         self.assertEqual(sum_text({"b": -1, "c": 0, "a": 3}), "{a: 3, b: -1}")
         self.assertEqual(sum_text(row={}), "{}")
         self.assertEqual(sum_text({"a": 0}), "{}")
@@ -88,7 +90,8 @@ class ReadBack(unittest.TestCase):
 
     def test_questions(self):
         for text, weights in (("0", {}), ("1", {"": 1}), ("-1", {"": -1}), ("a", {"a": 1}), ("-a", {"a": -1}),
-                              ("1/3", {"": Ratio(1, 3)}), ("-5/2*a*b", {"ab": Ratio(-5, 2)}), ("b - a", {"b": 1, "a": -1}),
+                              ("1/3", {"": Ratio(1, 3)}), ("-5/2*a*b", {"ab": Ratio(-5, 2)}),
+                              ("b - a", {"b": 1, "a": -1}),
                               ("-b + a", {"b": -1, "a": 1}), ("a*a*b - b + 7", {"aab": 1, "b": -1, "": 7})):
             self.back(read_question, text, Question([(number, list(keys)) for keys, number in weights.items()]))
         self.back(read_question, "-abcdefgh*z9 - z9", Question([(-1, ["z9", "abcdefgh"]), (-1, ["z9"])]))
@@ -110,7 +113,8 @@ class ReadBack(unittest.TestCase):
         self.assertEqual(len(read_note(note_text(Note.of_keys(*"abcdefgh")))), 8)
 
     def test_sketches_and_rules(self):
-        for sketch in (signs(["a", "b"]), sample(list("abcde"), 3), buckets(list("abc"), 10 ** 20), sketch_of(*[[]] * 12)):
+        for sketch in (signs(["a", "b"]), sample(list("abcde"), 3), buckets(list("abc"), 10 ** 20),
+                sketch_of(*[[]] * 12)):
             self.back(read_sketch, sketch_text(sketch), sketch)
         for chance in cases(2, 100):
             sketch = some_sketch(chance, some_keys(chance), 4, 3)
@@ -127,7 +131,8 @@ class ReadBack(unittest.TestCase):
             table = Table({key: chance.randint(-2, 12) for key in keys})
             for text, call, write in (
                     (str(question), read_question, str), (table_text(table), read_table, table_text),
-                    (note_text(sketch.note("s0")), read_note, note_text), (sketch_text(sketch), read_sketch, sketch_text),
+                    (note_text(sketch.note("s0")), read_note, note_text),
+                    (sketch_text(sketch), read_sketch, sketch_text),
                     (rule_text(Rule({"a": question, "b": question})), read_rule, rule_text)):
                 other = spoilt(chance, text)
                 found = told(call, other)
@@ -147,37 +152,53 @@ class Spoilt(unittest.TestCase):
 
     def test_questions(self):
         self.wrong(read_question, [
-            "", " ", "a ", " a", "a  + b", "b  + a", "b +  a", "a + b", "b+a", "b +a", "b - -a", "b + -a", "+a", "--a", "- a", "-0",
-            "+0", "00", "-00", "0*a", "0 + a", "a + 0", "0 ", "1*a", "-1*a", "a*1", "a*2", "2a", "2 * a", "a * a", "a**a", "*a", "a*",
-            "2*", "*", "+", "-", "b*a", "a*b*a", "a - a", "b + b", "2*b + b", "01*a", "02*a", "2/4*a", "2/1*a", "1/0*a", "0/1",
-            "1/-2", "-1/-2", "1/02", "/2", "1/", "1//2", "1/2/3", "A", "B + a", "Ab", "a_b", "abcdefghi", "1a", "3 + a", "a + a*a",
-            "a*a + b*b", "b - a*a", "a\n", "\na", "b\n+ a", "a.b", "1.5", "1e5", "(a)", "b , a", "b + a +", "b + a -", "+ b + a",
+            "", " ", "a ", " a", "a  + b", "b  + a", "b +  a", "a + b", "b+a", "b +a", "b - -a", "b + -a", "+a", "--a",
+            "- a", "-0",
+            "+0", "00", "-00", "0*a", "0 + a", "a + 0", "0 ", "1*a", "-1*a", "a*1", "a*2", "2a", "2 * a", "a * a",
+            "a**a", "*a", "a*",
+            "2*", "*", "+", "-", "b*a", "a*b*a", "a - a", "b + b", "2*b + b", "01*a", "02*a", "2/4*a", "2/1*a", "1/0*a",
+            "0/1",
+            "1/-2", "-1/-2", "1/02", "/2", "1/", "1//2", "1/2/3", "A", "B + a", "Ab", "a_b", "abcdefghi", "1a", "3 + a",
+            "a + a*a",
+            "a*a + b*b", "b - a*a", "a\n", "\na", "b\n+ a", "a.b", "1.5", "1e5", "(a)", "b , a", "b + a +", "b + a -",
+            "+ b + a",
             "b a", "b = a", "b * a", "b +", "2 3", "p0*p0 - p1*p1", "- 1", "1 1", "1 + 1", "{}", "[]", "a + b + 1"])
         self.assertEqual(read_question("b + a"), A + B)
 
     def test_tables(self):
         self.wrong(read_table, [
-            "", " ", "{", "}", "}{", "{}}", "{{}", "{ }", " {}", "{} ", "[]", "()", "{a:1}", "{a : 1}", "{a: 1 }", "{ a: 1}", "{a:  1}",
-            "{a: 1,b: 2}", "{a: 1,  b: 2}", "{a: 1; b: 2}", "{a: 1, }", "{, a: 1}", "{,}", "{a: 1,}", "{b: 1, a: 2}", "{a: 1, a: 1}",
-            "{a: 1, a: 2}", "{a: 0}", "{a: -0}", "{a: 01}", "{a: +1}", "{a: 1/1}", "{a: 1/2}", "{a: 1.0}", "{a: }", "{a}", "{: 1}",
-            "{A: 1}", "{1: 1}", "{'a': 1}", "{abcdefghi: 1}", "{a: b}", "{a: --1}", "{a: -}", "{a: 1}\n", "\n{a: 1}", "{a: 1,\nb: 1}",
+            "", " ", "{", "}", "}{", "{}}", "{{}", "{ }", " {}", "{} ", "[]", "()", "{a:1}", "{a : 1}", "{a: 1 }",
+            "{ a: 1}", "{a:  1}",
+            "{a: 1,b: 2}", "{a: 1,  b: 2}", "{a: 1; b: 2}", "{a: 1, }", "{, a: 1}", "{,}", "{a: 1,}", "{b: 1, a: 2}",
+            "{a: 1, a: 1}",
+            "{a: 1, a: 2}", "{a: 0}", "{a: -0}", "{a: 01}", "{a: +1}", "{a: 1/1}", "{a: 1/2}", "{a: 1.0}", "{a: }",
+            "{a}", "{: 1}",
+            "{A: 1}", "{1: 1}", "{'a': 1}", "{abcdefghi: 1}", "{a: b}", "{a: --1}", "{a: -}", "{a: None}", "{None: 1}",
+            "{a: 1}\n", "\n{a: 1}", "{a: 1,\nb: 1}",
             "a: 1", "{a: 1", "a: 1}", "{a: 1}{b: 1}", "{a: 1: 2}", "{b9: 1, b10: 1}", "{a: 1_0}", "{a: 1 0}", "0", "a"])
 
     def test_notes(self):
         self.wrong(read_note, [
-            "", "[", "]", "][", "{}", "[ ]", " []", "[] ", "[]\n", "[[]]", "[{}", "{}]", "[{};{}]", "[{} ; {}]", "[{};  {}]", "[{}, {}]",
-            "[{}; ]", "[; {}]", "[;]", "[{};]", "[{a: 0}]", "[{b: 1, a: 1}]", "[{a: 1, a: 1}]", "[{a:1}]", "[a: 1]", "[{a: 1}; {a: 01}]",
+            "", "[", "]", "][", "{}", "[ ]", " []", "[] ", "[]\n", "[[]]", "[{}", "{}]", "[{};{}]", "[{} ; {}]",
+            "[{};  {}]", "[{}, {}]",
+            "[{}; ]", "[; {}]", "[;]", "[{};]", "[{a: 0}]", "[{b: 1, a: 1}]", "[{a: 1, a: 1}]", "[{a:1}]", "[a: 1]",
+            "[{a: 1}; {a: 01}]",
             "[{a: 1}; {a: +1}]", "[{a: 1}; {a: 1/2}]", "[{A: 1}]", "[{a: 1}; a]", "[" + "; ".join(["{}"] * 9) + "]",
             "[" + "; ".join(["{a: 1}"] * 9) + "]", "[{a: 1}\n; {}]"])
         self.assertEqual(len(read_note("[" + "; ".join(["{}"] * 8) + "]")), 8)
 
     def test_lines_of_sketches(self):
         lines = ["seed s0 1/2 []", "seed s1 1/2 []"]
-        for wrong in ("", " ", "seed", "seed s1", "seed s1 1/2", "seed s1 1/2 ", "seed s1  1/2 []", "seed  s1 1/2 []", "seed s1 1/2  []",
-                      " seed s1 1/2 []", "seed s1 1/2 [] ", "Seed s1 1/2 []", "seeds s1 1/2 []", "rule s1 1/2 []", "seed S1 1/2 []",
-                      "seed 1s 1/2 []", "seed s0 1/2 []", "seed s1 2/4 []", "seed s1 0 []", "seed s1 -1/2 []", "seed s1 0/2 []",
-                      "seed s1 +1/2 []", "seed s1 1/02 []", "seed s1 01/2 []", "seed s1 1/0 []", "seed s1 0.5 []", "seed s1 1 []",
-                      "seed s1 3/4 []", "seed s1 1/2 {}", "seed s1 1/2 [{a: 0}]", "seed s1 1/2 [{b: 1, a: 1}]", "seed s1 1/2", "s1 1/2 []",
+        for wrong in ("", " ", "seed", "seed s1", "seed s1 1/2", "seed s1 1/2 ", "seed s1  1/2 []", "seed  s1 1/2 []",
+                "seed s1 1/2  []",
+                      " seed s1 1/2 []", "seed s1 1/2 [] ", "Seed s1 1/2 []", "seeds s1 1/2 []", "rule s1 1/2 []",
+                      "seed S1 1/2 []",
+                      "seed 1s 1/2 []", "seed s0 1/2 []", "seed s1 2/4 []", "seed s1 None []", "seed s1 1/2 None",
+                      "seed s1 0 []", "seed s1 -1/2 []", "seed s1 0/2 []",
+                      "seed s1 +1/2 []", "seed s1 1/02 []", "seed s1 01/2 []", "seed s1 1/0 []", "seed s1 0.5 []",
+                      "seed s1 1 []",
+                      "seed s1 3/4 []", "seed s1 1/2 {}", "seed s1 1/2 [{a: 0}]", "seed s1 1/2 [{b: 1, a: 1}]",
+                      "seed s1 1/2", "s1 1/2 []",
                       "seed s1 1/2 [] []", "seed abcdefghi 1/2 []", "seed s1 1/2 [" + "; ".join(["{}"] * 9) + "]"):
             self.assertEqual(line_of(self, read_sketch, f"{lines[0]}\n{wrong}\n"), 2, wrong)
             self.assertEqual(line_of(self, read_sketch, f"{lines[0]}\n{wrong}\nx\n"), 2, wrong)
@@ -193,11 +214,13 @@ class Lines(unittest.TestCase):
         self.assertEqual(line_of(self, read_sketch, "\n"), 1)
 
     def test_a_last_line_without_a_line_feed(self):
-        for text, line in ((COIN_TEXT[:-1], 2), ("seed s0 1 []", 1), (COIN_TEXT + "x", 3), (COIN_TEXT + " ", 3), ("x", 1),
+        for text, line in ((COIN_TEXT[:-1], 2), ("seed s0 1 []", 1), (COIN_TEXT + "x", 3), (COIN_TEXT + " ", 3),
+                ("x", 1),
                            (COIN_TEXT + "\n", 3), (COIN_TEXT + COIN_TEXT, 3), ("seed s0 1/2 []\nseed s", 2)):
             self.assertEqual(line_of(self, read_sketch, text), line)
         self.assertEqual(line_of(self, read_sketch, "x\n" + COIN_TEXT[:-1]), 1)
-        for text, line in (("rule a 0", 1), ("rule a 0\nrule b 0", 2), ("rule a 0\nx", 2), ("rule a 0\n\n", 2), ("\n", 1), (" ", 1)):
+        for text, line in (("rule a 0", 1), ("rule a 0\nrule b 0", 2), ("rule a 0\nx", 2), ("rule a 0\n\n", 2),
+                ("\n", 1), (" ", 1)):
             self.assertEqual(line_of(self, read_rule, text), line)
 
     def test_weights_that_come_to_more_than_1(self):
@@ -231,9 +254,12 @@ class Lines(unittest.TestCase):
         self.assertEqual(len(read_sketch(text.replace("{}; ", "", 1))), 2)
 
     def test_rules(self):
-        for wrong in ("", "rule", "rule b", "rule b ", "rule b  p0", "rule  b p0", " rule b p0", "rule b p0 ", "Rule b p0", "seed b p0",
-                      "rule a p0", "rule A p0", "rule 0 p0", "rule b p8", "rule b a", "rule b p10", "rule b p0*p0 + p1*p1", "rule b 1*p0",
-                      "rule b p0 + p1", "rule b -0", "rule b p00", "rule b p0\trule", "b p0", "rule b q0", "rule abcdefghi p0"):
+        for wrong in ("", "rule", "rule b", "rule b ", "rule b  p0", "rule  b p0", " rule b p0", "rule b p0 ",
+                "Rule b p0", "seed b p0",
+                      "rule a p0", "rule A p0", "rule 0 p0", "rule b p8", "rule b a", "rule b p10",
+                      "rule b p0*p0 + p1*p1", "rule b 1*p0",
+                      "rule b p0 + p1", "rule b -0", "rule b p00", "rule b p0\trule", "b p0", "rule b q0",
+                      "rule abcdefghi p0"):
             self.assertEqual(line_of(self, read_rule, f"rule a p7\n{wrong}\n"), 2, wrong)
             self.assertEqual(line_of(self, read_rule, f"rule a p7\n{wrong}\nx\n"), 2, wrong)
         self.assertEqual(read_rule("rule a p7\nrule b p1 + p0\n").formula("b"), P + Q)

@@ -20,13 +20,15 @@ COIN, APART = signs(["a", "b"]), sample(["a", "b"], 1)
 SWAP, SAME = {"a": "b", "b": "a"}, {"a": "a", "b": "b"}
 NO_RENAMINGS = [None, True, 0, 1, "", "ab", [], ["a", "b"], ("b", "a"), {"a", "b"}, Odd(), COIN, Table({"a": 1}), {},
                 {"a": "a"}, {"a": "b"}, {"a": "a", "b": "a"}, {"a": "b", "b": "b"}, {"a": "a", "b": "c"},
-                {"a": "a", "c": "b"}, {"a": "a", "b": "b", "c": "c"}, {"a": "b", "b": "c", "c": "a"}, {"a": "x", "b": "y"},
+                {"a": "a", "c": "b"}, {"a": "a", "b": "b", "c": "c"}, {"a": "b", "b": "c", "c": "a"},
+                {"a": "x", "b": "y"},
                 {"a": "a", "b": None}, {"a": "a", "b": 1}, {"a": A, "b": B}, {1: "a", 2: "b"}, {"a": "a", "b": ["b"]}]
 
 
 def rows_of(note, keys, renaming):
     """The reduced rows of a renamed note, by an elimination of the test's own."""
-    return reduced([[row.get(old, 0) for new in keys for old in renaming if renaming[old] == new] for row in note.sums()])
+    return reduced([[row.get(old,
+            0) for new in keys for old in renaming if renaming[old] == new] for row in note.sums()])
 
 
 def is_matching(sketch, renaming, found):
@@ -139,11 +141,13 @@ class All(unittest.TestCase):
             self.check(some_symmetric_sketch(chance, some_keys(chance, 3)))
         for chance in cases(2, 6):
             self.check(some_symmetric_sketch(chance, list("abcd")))
-        for sketch in (sample(list("abc"), 2), signs(list("abc")), buckets(["a", "b"], 2), signed_buckets(["a", "b"], 2)):
+        for sketch in (sample(list("abc"), 2), signs(list("abc")), buckets(["a", "b"], 2),
+                signed_buckets(["a", "b"], 2)):
             self.check(sketch)
 
     def test_made_sketches(self):
-        for sketch, many in ((sample(list("abcdef"), 5), 720), (signs(list("abcd")), 24), (buckets(list("abcd"), 2), 24)):
+        for sketch, many in ((sample(list("abcdef"), 5), 720), (signs(list("abcd")), 24),
+                (buckets(list("abcd"), 2), 24)):
             self.assertEqual(renamings(sketch), all_renamings(sketch))
             self.assertEqual(len(renamings(sketch)), many)
 

@@ -87,7 +87,8 @@ class Sketches(unittest.TestCase):
             at = 0
             for first, weight, _ in sketch.walk():
                 for second, more, _ in sketch.walk():
-                    self.assertEqual(apart.shows(f"s{at}", both), sketch.shows(first, one) + sketch.shows(second, other))
+                    self.assertEqual(apart.shows(f"s{at}", both),
+                            sketch.shows(first, one) + sketch.shows(second, other))
                     self.assertEqual(apart.weight(f"s{at}"), weight * more)
                     at += 1
             self.assertEqual(len(apart), at)
@@ -164,7 +165,8 @@ class Joins(unittest.TestCase):
 
 class Wrong(unittest.TestCase):
     def test_names(self):
-        values = [None, True, 0, 1, "", "ab", [], ["x", "y"], ("x", "y"), [("a", "x"), ("b", "y")], {"x", "y"}, Odd(), COIN,
+        values = [None, True, 0, 1, "", "ab", [], ["x", "y"], ("x", "y"), [("a", "x"), ("b", "y")], {"x", "y"}, Odd(),
+                COIN,
                   Table({"a": 1, "b": 1}), {}, {"a": "x"}, {"a": "x", "c": "y"}, {"a": "x", "b": "y", "c": "z"},
                   {"a": "x", "b": "x"}, {"a": "b", "b": "a"}, {"a": "a", "b": "b"}, {"a": "x", "b": "a"},
                   {"a": "x", "b": "b"}, {"a": "x", "b": 1}, {"a": "x", "b": True}, {"a": "x", 1: "y"}, {"a": X, "b": Y}]

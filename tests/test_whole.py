@@ -26,8 +26,10 @@ from notesums.tying import own, tied, tied_joins, tying_loses
 from notesums.twins import exact_twins, failing_size, is_twins
 
 NOTHING = Question()
-MADE = [sample(["a", "b"], 1), sample(["a", "b", "c"], 2), signs(["a", "b"]), signs(["a", "b", "c"]), buckets(["a", "b"], 2),
-        buckets(["a", "b", "c"], 2), signed_buckets(["a", "b"], 2), signed_buckets(["a", "b", "c"], 10 ** 20), sketch_of([])]
+MADE = [sample(["a", "b"], 1), sample(["a", "b", "c"], 2), signs(["a", "b"]), signs(["a", "b", "c"]),
+        buckets(["a", "b"], 2),
+        buckets(["a", "b", "c"], 2), signed_buckets(["a", "b"], 2), signed_buckets(["a", "b", "c"], 10 ** 20),
+        sketch_of([])]
 
 
 def pairs(seed, many, keys=3, seeds=4):
@@ -46,12 +48,18 @@ def pairs(seed, many, keys=3, seeds=4):
 def asked(sketch, question):
     """What all functions tell of a pair, those that need not return the same for all programs as well."""
     return [
-        can_answer(sketch, question), rule_for(sketch, question), failing_degrees(sketch, question), answer_base(sketch, 2),
-        remainder(sketch, question), zero_base(sketch, 1), moment_twins(sketch, question), least_copies(sketch, question),
-        copies_rule(sketch, question, 2), copies_twins(sketch, question, 1), unseen_base(sketch), unseen_pair(sketch, question),
-        least_sets(sketch, question), greatest_sets(sketch, question), needed_seeds(sketch, question), needed_sums(sketch, question),
-        needed_keys(sketch, question), lean(sketch, [question]), box_rule(sketch, question, {"a": 1}), renamings(sketch),
-        exact_twins(sketch, question, box={"a": 1, "b": 1}), sketch_text(sketch), str(question), repr(sketch), repr(question),
+        can_answer(sketch, question), rule_for(sketch, question), failing_degrees(sketch, question),
+        answer_base(sketch, 2),
+        remainder(sketch, question), zero_base(sketch, 1), moment_twins(sketch, question),
+        least_copies(sketch, question),
+        copies_rule(sketch, question, 2), copies_twins(sketch, question, 1), unseen_base(sketch),
+        unseen_pair(sketch, question),
+        least_sets(sketch, question), greatest_sets(sketch, question), needed_seeds(sketch, question),
+        needed_sums(sketch, question),
+        needed_keys(sketch, question), lean(sketch, [question]), box_rule(sketch, question, {"a": 1}),
+        renamings(sketch),
+        exact_twins(sketch, question, box={"a": 1, "b": 1}), sketch_text(sketch), str(question), repr(sketch),
+        repr(question),
         certificate_of(("answered", sketch, question)), certificate_of(("more copies", sketch, question, 1)),
         averaged(question, renamings(sketch)), least_additions(sketch, question, [{"a": 1}]),
     ]
@@ -166,7 +174,8 @@ class Guarantees(unittest.TestCase):
         for sketch, question in pairs(7, 60):
             for chance in cases(8, 3):
                 other = some_question(chance, sketch.used_keys() or ["a"], 2, 3)
-                self.assertIs(remainder(sketch, question) == remainder(sketch, other), can_answer(sketch, question - other))
+                self.assertIs(remainder(sketch, question) == remainder(sketch, other),
+                        can_answer(sketch, question - other))
             left = remainder(sketch, question)
             self.assertTrue(can_answer(sketch, question - left))
             self.assertEqual(remainder(sketch, left), left)
@@ -177,7 +186,8 @@ class Guarantees(unittest.TestCase):
 
     def test_checked(self):
         for sketch, question in pairs(9, 40):
-            claims = [("answered", sketch, question), ("not answered", sketch, question), ("on the box", sketch, question, {"a": 2}),
+            claims = [("answered", sketch, question), ("not answered", sketch, question),
+                    ("on the box", sketch, question, {"a": 2}),
                       ("not on the box", sketch, question, {"a": 2})]
             if len(sketch) <= 6:
                 claims += [("by copies", sketch, question, 1), ("more copies", sketch, question, 1)]
@@ -204,7 +214,8 @@ class BesideOneAnother(unittest.TestCase):
 
     def test_texts_and_desks(self):
         for chance in cases(12, 40):
-            made = chance.choice(["sample 1 a b", "sample 2 a b c", "signs a b", "signs b c a", "buckets 2 a b", "signed 3 a b"])
+            made = chance.choice(["sample 1 a b", "sample 2 a b c", "signs a b", "signs b c a", "buckets 2 a b",
+                    "signed 3 a b"])
             word, *rest = made.split(" ")
             make = {"sample": sample, "signs": signs, "buckets": buckets, "signed": signed_buckets}[word]
             sketch = make(rest) if word == "signs" else make(rest[1:], int(rest[0]))
@@ -216,7 +227,8 @@ class BesideOneAnother(unittest.TestCase):
             self.assertEqual(desk.do("can s q"), "yes" if can_answer(sketch, question) else "no")
             self.assertEqual(desk.do("copies s q"), str(least_copies(sketch, question)).replace("None", "never"))
             self.assertEqual(desk.do("remainder s q"), str(remainder(sketch, question)))
-            self.assertEqual(desk.do("sets s q"), " ".join("+".join(seeds) for seeds in least_sets(sketch, question)) or "none")
+            self.assertEqual(desk.do("sets s q"),
+                    " ".join("+".join(seeds) for seeds in least_sets(sketch, question)) or "none")
             self.assertEqual(desk.do("value q t"), str(question.at(table)))
             self.assertEqual(desk.do("shows s s0 t"), ", ".join(map(str, sketch.shows("s0", table))))
             rule = desk.do("rule s q")
